@@ -1,0 +1,28 @@
+"""The two ways of strokes, and what goes along them."""
+
+from fourstrokes.boxes import ACROSS
+
+# In the order of the axes along which they lead.
+WAYS = ("level", "upright")
+
+
+def is_way(thing):
+    """Whether a thing is a word for a way."""
+    return isinstance(thing, str) and thing in WAYS
+
+
+def axis_of(way):
+    """The axis along which boxes go in strokes of this way."""
+    return WAYS.index(way)
+
+
+def edges(places, axis):
+    """The left edges at these places, or the upper ones, as the axis is."""
+    return tuple([place[axis] for place in places])
+
+
+def with_edges(places, axis, goals):
+    """These places with other edges along the axis."""
+    if axis == ACROSS:
+        return tuple([(goal, place[1]) for goal, place in zip(goals, places)])
+    return tuple([(place[0], goal) for goal, place in zip(goals, places)])

@@ -1,0 +1,65 @@
+"""The interface: each name stands in its file, with its arguments."""
+
+import importlib
+import inspect
+import unittest
+
+FUNCTIONS = {
+    "boxes": {"overlaps": "boxes places", "is_picture": "boxes thing"},
+    "books": {
+        "left_of": "boxes picture", "above": "boxes picture", "ring": "many book", "is_ring": "many book thing",
+        "passed_on": "many book", "count_orders": "many book", "order_at": "many book number",
+    },
+    "strokes": {
+        "moved": "boxes picture stroke", "places_at": "boxes picture stroke moment", "is_free": "boxes picture thing",
+        "first_hit": "boxes picture stroke",
+    },
+    "scripts": {
+        "led": "boxes picture script", "is_script": "boxes picture thing", "pictures": "boxes picture script",
+        "taken_back": "boxes picture script", "joined": "boxes picture script",
+    },
+    "boards": {
+        "fewest": "boxes one other", "shortest": "boxes one other", "script_by": "boxes one other ways",
+        "twist": "boxes one other way", "is_twist": "boxes one other way thing",
+    },
+    "rules": {
+        "is_keeping": "boxes rules thing", "fewest_kept": "boxes rules one other",
+        "shortest_kept": "boxes rules one other",
+    },
+}
+
+CLASSES = {"boxes": {"Boxes": ("__init__", "__eq__")}}
+
+
+def module(name):
+    return importlib.import_module(f"fourstrokes.{name}")
+
+
+class Interface(unittest.TestCase):
+
+    def test_each_function_is_defined_in_its_file(self):
+        for name, functions in FUNCTIONS.items():
+            for word in functions:
+                with self.subTest(word):
+                    found = getattr(module(name), word)
+                    self.assertTrue(inspect.isfunction(found))
+                    self.assertEqual((found.__module__, found.__name__), (f"fourstrokes.{name}", word))
+
+    def test_each_function_takes_its_arguments(self):
+        for name, functions in FUNCTIONS.items():
+            for word, arguments in functions.items():
+                with self.subTest(word):
+                    inspect.signature(getattr(module(name), word)).bind(*arguments.split())
+
+    def test_each_class_is_defined_in_its_file_with_its_methods(self):
+        for name, classes in CLASSES.items():
+            for word, methods in classes.items():
+                with self.subTest(word):
+                    found = getattr(module(name), word)
+                    self.assertEqual(found.__module__, f"fourstrokes.{name}")
+                    for method in methods:
+                        self.assertIn(method, vars(found))
+
+
+if __name__ == "__main__":
+    unittest.main()
