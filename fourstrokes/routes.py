@@ -3,7 +3,7 @@
 from fourstrokes.books import book_along
 from fourstrokes.orders import merged, peeled
 from fourstrokes.scripts import walk
-from fourstrokes.ways import axis_of, edges
+from fourstrokes.ways import axis_of, edges, stacked
 
 # Four strokes by turns always lead there, whichever way begins.
 LEVEL_FIRST = ("level", "upright", "level", "upright")
@@ -70,9 +70,4 @@ def spread(boxes, axis, books):
     order, rest = peeled(boxes.many, merged(books))
     if rest:
         return None
-    goals = [0] * boxes.many
-    edge = 0
-    for box in order:
-        goals[box] = edge
-        edge += boxes.sizes[box][axis]
-    return tuple(goals)
+    return stacked(boxes, axis, order)

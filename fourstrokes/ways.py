@@ -26,3 +26,13 @@ def with_edges(places, axis, goals):
     if axis == ACROSS:
         return tuple([(goal, place[1]) for goal, place in zip(goals, places)])
     return tuple([(place[0], goal) for goal, place in zip(goals, places)])
+
+
+def stacked(boxes, axis, order):
+    """Edges along the axis at which the boxes stand in this order, each one beginning where the one ahead ends."""
+    found = [0] * boxes.many
+    edge = 0
+    for box in order:
+        found[box] = edge
+        edge += boxes.sizes[box][axis]
+    return tuple(found)

@@ -26,6 +26,19 @@ FUNCTIONS = {
         "is_keeping": "boxes rules thing", "fewest_kept": "boxes rules one other",
         "shortest_kept": "boxes rules one other",
     },
+    "columns": {
+        "is_within": "boxes width thing", "broad": "boxes width", "barring": "boxes width one other",
+        "column_script": "boxes width one other", "column_three": "boxes width one other",
+    },
+    "lists": {
+        "listed": "boxes list", "broadest": "boxes one other", "list_of": "boxes picture",
+        "stand": "boxes width one other", "turned": "boxes one other", "can_pass": "boxes width one other",
+        "is_stand": "boxes width one other thing",
+    },
+    "passing": {
+        "lists_in_pass": "boxes width list", "fewest_passes": "boxes width one other",
+        "passes": "boxes width one other", "is_passing": "lanes thing", "figures": "lanes one other",
+    },
 }
 
 CLASSES = {"boxes": {"Boxes": ("__init__", "__eq__")}}
