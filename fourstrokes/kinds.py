@@ -23,6 +23,11 @@ def is_integers(thing, many):
     return is_tuple_of(thing, many) and all([is_integer(item) for item in thing])
 
 
+def is_word(thing, words):
+    """Whether a thing is one of these words."""
+    return isinstance(thing, str) and thing in words
+
+
 def is_fraction(thing):
     """Whether a thing is a fraction: a pair of a top and a bottom without a common divisor."""
     return is_integers(thing, 2) and thing[1] >= 1 and gcd(thing[0], thing[1]) == 1

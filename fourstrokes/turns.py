@@ -67,3 +67,18 @@ def broadest_lot(widths, one, other):
         if ends[thing] == edges[last] and here[thing] < here[last] and there[thing] > there[last]:
             lot.append(thing)
     return tuple(sorted(lot))
+
+
+def followers(lists):
+    """For each thing the list of those that stand behind it in each of some lists."""
+    places = [ranks(order) for order in lists]
+    many = len(lists[0])
+    return [
+        [other for other in range(many) if all([rank[one] < rank[other] for rank in places])]
+        for one in range(many)
+    ]
+
+
+def is_turned(one, other, lot):
+    """Whether each two of a lot stand in unlike order in both lists."""
+    return [thing for thing in one if thing in lot] == [thing for thing in other if thing in lot][::-1]

@@ -1,6 +1,7 @@
 """The two ways of strokes, and what goes along them."""
 
 from fourstrokes.boxes import ACROSS
+from fourstrokes.kinds import is_word
 
 # In the order of the axes along which they lead.
 WAYS = ("level", "upright")
@@ -8,7 +9,7 @@ WAYS = ("level", "upright")
 
 def is_way(thing):
     """Whether a thing is a word for a way."""
-    return isinstance(thing, str) and thing in WAYS
+    return is_word(thing, WAYS)
 
 
 def axis_of(way):

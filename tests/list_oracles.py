@@ -1,4 +1,4 @@
-"""What the document says of columns, lists and passes, written once more in the plainest way, for the tests."""
+"""What the document says of columns and of lists, written once more in the plainest way, for the tests."""
 
 from itertools import combinations, permutations, product
 
@@ -152,6 +152,166 @@ def right_passing(lanes, thing):
 def least_power(lanes, many):
     """The least k for which lanes ** k is at least many."""
     return next(k for k in range(40) if lanes ** k >= many)
+
+
+# Fading
+
+
+def rows(one, other):
+    """How long the rows are into which the things of one list, told by their places in the other one, push each other.
+
+    So many things as the first k rows have stand in k lists of things in one order (Greene).
+    """
+    found = []
+    for thing in one:
+        place = other.index(thing)
+        for row in found:
+            greater = [number for number, each in enumerate(row) if each > place]
+            if not greater:
+                row.append(place)
+                break
+            row[greater[0]], place = place, row[greater[0]]
+        else:
+            found.append([place])
+    return [len(row) for row in found]
+
+
+def fewest_fades(lanes, one, other):
+    return sum(rows(one, other)[lanes:])
+
+
+def right_fades(lanes, one, other, thing):
+    if type(thing) is not tuple or len(thing) != len(one):
+        return False
+    if not all(item is None or oracles.integer(item) and 0 <= item < lanes for item in thing):
+        return False
+    return not any(thing[near] is not None and thing[near] == thing[far] for near, far in turned(one, other))
+
+
+def right_parting(one, other, thing):
+    if type(thing) is not tuple or () in thing or not all(right_turned_lot(one, other, lot) for lot in thing):
+        return False
+    return sorted(item for lot in thing for item in lot) == list(range(len(one))) and list(thing) == sorted(thing)
+
+
+def excess(lanes, thing):
+    return sum(len(lot) - lanes for lot in thing if len(lot) > lanes)
+
+
+def partings(one, other):
+    """All partings of few things."""
+    found = [()]
+    for thing in range(len(one)):
+        found = [
+            lots[:number] + (lots[number] + (thing,),) + lots[number + 1:] for lots in found for number in range(len(lots))
+        ] + [lots + ((thing,),) for lots in found]
+    return [lots for lots in found if right_parting(one, other, lots)]
+
+
+# Lanes for ever
+
+
+def ever_turned(lists):
+    """The pairs of things that stand in unlike order in some two of the lists."""
+    pairs = combinations(range(len(lists[0])), 2)
+    return {pair for pair in pairs if len({ahead(order, *pair) for order in lists}) == 2}
+
+
+def right_forever(lists, thing):
+    """Whether a thing is lanes numbered from 0, none left out, that let no two share one that must not."""
+    if not oracles.integers(thing, len(lists[0])) or sorted(set(thing)) != list(range(max(thing) + 1)):
+        return False
+    return not any(thing[near] == thing[far] for near, far in ever_turned(lists))
+
+
+def right_crowd(lists, thing):
+    return right_lot(len(lists[0]), thing) and set(combinations(thing, 2)) <= ever_turned(lists)
+
+
+# A column that comes round
+
+
+def steps(many):
+    return [("past", place) for place in range(many - 1)] + [("over",), ("back",)]
+
+
+def behind_step(widths, width, order, step):
+    """The list behind a step, None if it can't be done."""
+    if step == ("over",):
+        return order[1:] + (order[0],)
+    if step == ("back",):
+        return (order[-1],) + order[:-1]
+    place = step[1]
+    if widths[order[place]] + widths[order[place + 1]] > width:
+        return None
+    found = list(order)
+    found[place:place + 2] = reversed(found[place:place + 2])
+    return tuple(found)
+
+
+def behind_steps(widths, width, order, told):
+    """The list behind some steps, or the number of the first thing that is no step or can't be done."""
+    for number, step in enumerate(told):
+        if type(step) is not tuple or any(type(item) not in (str, int) for item in step):
+            return number
+        if step not in steps(len(widths)):
+            return number
+        order = behind_step(widths, width, order, step)
+        if order is None:
+            return number
+    return order
+
+
+def reached_round(widths, width, order):
+    """All lists to which steps lead."""
+    found = {order}
+    coming = [order]
+    for each in coming:
+        for step in steps(len(widths)):
+            after = behind_step(widths, width, each, step)
+            if after is not None and after not in found:
+                found.add(after)
+                coming.append(after)
+    return found
+
+
+def broad_both_ways(widths, width):
+    return [(one, other) for one, other in permutations(range(len(widths)), 2) if widths[one] + widths[other] > width]
+
+
+def difference(one, other, near, far):
+    if ahead(one, near, far) and not ahead(other, near, far):
+        return 1
+    if ahead(other, near, far) and not ahead(one, near, far):
+        return -1
+    return 0
+
+
+def right_rounds(widths, width, one, other, thing):
+    if not oracles.integers(thing, len(widths)):
+        return False
+    pairs = broad_both_ways(widths, width)
+    return all(thing[far] - thing[near] == difference(one, other, near, far) for near, far in pairs)
+
+
+def pieces(widths, width):
+    """The lots of boxes that hang together by broad pairs."""
+    found = [{box} for box in range(len(widths))]
+    for near, far in broad_both_ways(widths, width):
+        joint = [piece for piece in found if near in piece or far in piece]
+        found = [piece for piece in found if piece not in joint] + [set().union(*joint)]
+    return found
+
+
+def right_knot(widths, width, one, other, thing):
+    if type(thing) is not tuple or len(thing) < 2:
+        return False
+    if not all(oracles.integer(item) and 0 <= item < len(widths) for item in thing) or len(set(thing)) < len(thing):
+        return False
+    pairs = [(thing[number - 1], thing[number]) for number in range(len(thing))]
+    if not set(pairs) <= set(broad_both_ways(widths, width)):
+        return False
+    return sum(difference(one, other, *pair) for pair in pairs) != 0
 
 
 # Samples

@@ -39,9 +39,19 @@ FUNCTIONS = {
         "lists_in_pass": "boxes width list", "fewest_passes": "boxes width one other",
         "passes": "boxes width one other", "is_passing": "lanes thing", "figures": "lanes one other",
     },
+    "fading": {
+        "fewest_fades": "lanes one other", "excess": "lanes one other parting", "fades": "lanes one other",
+        "parting": "lanes one other", "is_fades": "lanes one other thing", "is_parting": "one other thing",
+    },
+    "lanes": {"forever": "lists", "crowd": "lists"},
+    "rounds": {
+        "stepped": "boxes width list steps", "rounds": "boxes width one other", "knot": "boxes width one other",
+        "round_steps": "boxes width one other", "is_rounds": "boxes width one other thing",
+        "is_knot": "boxes width one other thing",
+    },
 }
 
-CLASSES = {"boxes": {"Boxes": ("__init__", "__eq__")}}
+CLASSES = {"boxes": {"Boxes": ("__init__", "__eq__")}, "scenes": {"Scene": ("__init__", "__eq__")}}
 
 
 def module(name):

@@ -2,6 +2,7 @@
 
 from fourstrokes.boxes import Boxes
 from fourstrokes.errors import BadBook, NoPlaces, NotFree, StrokeError
+from fourstrokes.scenes import Scene
 
 
 def nested(depth, wrap, core):
@@ -39,7 +40,7 @@ def plain_things():
         {0: 1}.keys(), {0: 1}.values(), {0: 1}.items(),
         len, "".join, lambda: None, (number for number in (0, 1)), int, tuple, object, object(), type, property(),
         ValueError("no"), KeyError(0), StopIteration(),
-        Boxes, Boxes(((1, 1),)), Boxes(((2, 1), (2, 1))),
+        Boxes, Boxes(((1, 1),)), Boxes(((2, 1), (2, 1))), Scene, Scene(1, ((),)),
         StrokeError, NoPlaces(), BadBook(0), NotFree((0, 1)),
     ]
 
