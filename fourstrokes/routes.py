@@ -8,18 +8,22 @@ from fourstrokes.ways import axis_of, edges, stacked
 # Four strokes by turns always lead there, whichever way begins.
 LEVEL_FIRST = ("level", "upright", "level", "upright")
 UPRIGHT_FIRST = ("upright", "level", "upright", "level")
+MOST_NEEDED = 4
 
 NO_RULES = ((), ())
 
 
-def shortest_route(boxes, one, other, rules):
-    """A script of as few free strokes as can be that leads there and keeps the rules at every moment."""
-    for many in range(4):
+def shortest_route(boxes, one, other, rules, most=MOST_NEEDED):
+    """A script of as few free strokes as can be that leads there and keeps the rules at every moment.
+
+    None if more than most are needed. At most two strokes also tell that they can't lead to places that overlap.
+    """
+    for many in range(most + 1):
         for ways in (LEVEL_FIRST[:many], UPRIGHT_FIRST[:many]):
             script = route(boxes, one, other, ways, rules)
             if script is not None:
                 return script
-    return route(boxes, one, other, LEVEL_FIRST, rules)
+    return None
 
 
 def route(boxes, one, other, ways, rules):

@@ -49,9 +49,28 @@ FUNCTIONS = {
         "round_steps": "boxes width one other", "is_rounds": "boxes width one other thing",
         "is_knot": "boxes width one other thing",
     },
+    "running": {"ran": "scene boxes begins most", "picture_of": "scene boxes begins"},
+    "films": {"film_script": "boxes film", "shown": "boxes picture script time"},
 }
 
-CLASSES = {"boxes": {"Boxes": ("__init__", "__eq__")}, "scenes": {"Scene": ("__init__", "__eq__")}}
+# For each method its arguments behind the object itself.
+CLASSES = {
+    "boxes": {"Boxes": {"__init__": "sizes", "__eq__": "other"}},
+    "scenes": {"Scene": {"__init__": "cells routines", "__eq__": "other"}},
+    "running": {
+        "SceneRunner": {
+            "__init__": "scene boxes begins", "word": "", "coming": "", "opened": "", "contents": "", "places": "",
+            "step": "", "back": "", "steps": "", "go": "most", "copy": "",
+        },
+    },
+    "pages": {
+        "Page": {
+            "__init__": "boxes picture width", "boxes": "", "picture": "", "width": "", "stroke": "stroke", "lead": "picture",
+            "nudge": "box x y", "grow": "box width height", "add": "width height x y", "drop": "box", "undo": "", "redo": "",
+            "deeds": "", "strokes": "", "copy": "", "trying": "action",
+        },
+    },
+}
 
 
 def module(name):
@@ -80,8 +99,9 @@ class Interface(unittest.TestCase):
                 with self.subTest(word):
                     found = getattr(module(name), word)
                     self.assertEqual(found.__module__, f"fourstrokes.{name}")
-                    for method in methods:
-                        self.assertIn(method, vars(found))
+                    for method, arguments in methods.items():
+                        self.assertTrue(inspect.isfunction(vars(found)[method]), method)
+                        inspect.signature(vars(found)[method]).bind("self", *arguments.split())
 
 
 if __name__ == "__main__":

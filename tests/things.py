@@ -2,6 +2,8 @@
 
 from fourstrokes.boxes import Boxes
 from fourstrokes.errors import BadBook, NoPlaces, NotFree, StrokeError
+from fourstrokes.pages import Page
+from fourstrokes.running import SceneRunner
 from fourstrokes.scenes import Scene
 
 
@@ -41,6 +43,7 @@ def plain_things():
         len, "".join, lambda: None, (number for number in (0, 1)), int, tuple, object, object(), type, property(),
         ValueError("no"), KeyError(0), StopIteration(),
         Boxes, Boxes(((1, 1),)), Boxes(((2, 1), (2, 1))), Scene, Scene(1, ((),)),
+        SceneRunner, SceneRunner(Scene(1, ((),)), Boxes(((1, 1),)), (0,)), Page, Page(Boxes(((1, 1),)), ((0, 0),), None),
         StrokeError, NoPlaces(), BadBook(0), NotFree((0, 1)),
     ]
 
