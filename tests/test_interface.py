@@ -51,6 +51,11 @@ FUNCTIONS = {
     },
     "running": {"ran": "scene boxes begins most", "picture_of": "scene boxes begins"},
     "films": {"film_script": "boxes film", "shown": "boxes picture script time"},
+    "texts": {
+        "picture_text": "boxes picture", "script_text": "boxes script", "read_picture": "text", "read_script": "boxes text",
+    },
+    "sources": {"scene_text": "scene", "read_scene": "text"},
+    "drawings": {"drawn": "boxes picture", "read_drawn": "text"},
 }
 
 # For each method its arguments behind the object itself.
@@ -70,6 +75,7 @@ CLASSES = {
             "deeds": "", "strokes": "", "copy": "", "trying": "action",
         },
     },
+    "desks": {"Desk": {"__init__": "", "tell": "line"}},
 }
 
 

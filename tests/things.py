@@ -1,6 +1,7 @@
 """Things of every kind that a caller may pass in a wrong place, and ways to spoil a right one."""
 
 from fourstrokes.boxes import Boxes
+from fourstrokes.desks import Desk
 from fourstrokes.errors import BadBook, NoPlaces, NotFree, StrokeError
 from fourstrokes.pages import Page
 from fourstrokes.running import SceneRunner
@@ -44,6 +45,7 @@ def plain_things():
         ValueError("no"), KeyError(0), StopIteration(),
         Boxes, Boxes(((1, 1),)), Boxes(((2, 1), (2, 1))), Scene, Scene(1, ((),)),
         SceneRunner, SceneRunner(Scene(1, ((),)), Boxes(((1, 1),)), (0,)), Page, Page(Boxes(((1, 1),)), ((0, 0),), None),
+        Desk, Desk(),
         StrokeError, NoPlaces(), BadBook(0), NotFree((0, 1)),
     ]
 
